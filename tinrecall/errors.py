@@ -49,5 +49,5 @@ class BadRow(RecallError):
     """A row of a sheet that is not written as rows are."""
 
     def __init__(self, row):
-        RecallError.__init__(self, f"row {row} is not so written")
+        RecallError.__init__(self, "a row is not so written")
         self.row = row
