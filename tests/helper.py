@@ -1,6 +1,8 @@
 """What several tests need: told things looked through, and [2] held against a whole call."""
 
 import copy
+import functools
+import itertools
 
 BIG = 10 ** 30
 
@@ -85,3 +87,147 @@ def holds_to_point_two(case, function, *handed):
     case.assertEqual(handed, before, "a told list was bound to what was handed in")
     case.assertEqual(function(*handed), kept, "a changed told list changed what is told")
     return kept
+
+
+def nested(thing, deep, kind):
+    """A thing within so many lists or tuples."""
+    for _ in range(deep):
+        thing = kind([thing])
+    return thing
+
+
+JUNK = [
+    None, True, False, 0, 1, 2, -1, BIG, -BIG, "", "a", "bad", "cooker", "samples", "blind", [], (), [0], (0,), [1],
+    [-1], [True], (False,), [None], ["0"], [[]], ((),), [0, 1], (1, 0), [0, 0], (0, 1, 2), ("blind", 0), ["blind", 0],
+    ("samples", [], []), ("cooker", [], []), nested(0, 8, list), nested(0, 8, tuple), nested("a", 7, list),
+    nested(None, 7, tuple), [nested(True, 7, list)] * 3, (nested([], 6, tuple),) * 3,
+]
+
+
+def changed_at(thing, at, part):
+    """A list or tuple with another part at a place."""
+    parts = list(thing)
+    parts[at] = part
+    return type(thing)(parts)
+
+
+def turned(thing):
+    """A thing, itself, changed in small ways."""
+    if isinstance(thing, int):
+        yield from (thing + 1, thing - 1, -thing, bool(thing), str(thing), [thing], (thing,))
+    if isinstance(thing, str):
+        yield from (thing + "a", thing[1:], thing.upper(), [thing], (thing,))
+    if isinstance(thing, (list, tuple)):
+        other = list if isinstance(thing, tuple) else tuple
+        yield from (other(thing), thing[::-1], thing + thing, [thing], (thing,))
+        for at, part in enumerate(thing):
+            yield thing[:at] + thing[at + 1:]
+            yield thing[:at] + type(thing)([part]) + thing[at:]
+        for part in JUNK[:12]:
+            yield thing + type(thing)([part])
+
+
+def mangled(told):
+    """A told thing changed in many ways, at each of its places: most of them wrong, some as right as before."""
+    yield from JUNK
+    yield from turned(told)
+    if isinstance(told, (list, tuple)):
+        for at, part in enumerate(told):
+            for other in mangled(part):
+                yield changed_at(told, at, other)
+
+
+def are_rising_numbers(thing):
+    """Whether a thing is a rising list, or tuple, of plain whole numbers."""
+    if type(thing) not in (list, tuple) or any(type(one) is not int or one < 0 for one in thing):
+        return False
+    return all(one < other for one, other in zip(thing, thing[1:]))
+
+
+def small_batch(rng, mark):
+    """A batch of few tins and small minutes, past some of three places."""
+    tins = rng.randint(1, 6)
+    passes = []
+    for place in rng.sample(["cooker", "filler", "seamer"], rng.choice([0, 1, 2, 2, 3, 3])):
+        if rng.random() < 0.4:
+            passes.append(("line", place, rng.randint(0, 6), rng.randint(0, 3), rng.randint(1, 3)))
+        else:
+            per = rng.randint(1, 3)
+            stays = [tuple(sorted((rng.randint(0, 9), rng.randint(0, 9)))) for _ in range(-(-tins // per))]
+            passes.append(("racks", place, per, stays))
+    return (mark, tins, passes)
+
+
+def small_case(rng, most=6):
+    """A pair (batches, tests) of few tins and small minutes, one test of a bad tin at least."""
+    batches = [small_batch(rng, mark) for mark in rng.sample(["abcd", "wxyz", "mm00"], rng.randint(1, 3))]
+    tests = []
+    for word in ["bad"] + rng.choices(["bad", "good", "good"], k=rng.randint(0, most - 1)):
+        batch = rng.choice(batches)
+        tests.append((batch[0], rng.randrange(batch[1]), word))
+    rng.shuffle(tests)
+    return batches, tests
+
+
+def window_of(batches, place, test):
+    """The window of a test's tin at a place, as [6] has it."""
+    tins, passes = next((batch[1], batch[2]) for batch in batches if batch[0] == test[0])
+    for passed in passes:
+        if passed[1] == place and passed[0] == "line":
+            minute = passed[2] + test[1] * passed[3] // passed[4]
+            return (minute, minute)
+        if passed[1] == place:
+            return [stay for stay in passed[3] for _ in range(passed[2])][:tins][test[1]]
+    return None
+
+
+def places_in(batches):
+    """The rising list of the places of some batches."""
+    return sorted({passed[1] for batch in batches for passed in batch[2]})
+
+
+def meets(window, first, last):
+    """Whether one of the minutes from first to last is in a window, minute by minute."""
+    return window is not None and any(window[0] <= minute <= window[1] for minute in range(first, last + 1))
+
+
+def spans_between(bad, good, beyond):
+    """All (first, last) before the minute beyond that meet all bad windows and no good one."""
+    return spans_tried(tuple(bad), tuple(good), beyond)
+
+
+@functools.lru_cache(maxsize=10000)
+def spans_tried(bad, good, beyond):
+    return [(first, last) for first in range(beyond) for last in range(first, beyond)
+            if all(meets(window, first, last) for window in bad)
+            and not any(meets(window, first, last) for window in good)]
+
+
+# A minute behind all those of small batches, so that what has no end is seen to go on.
+BEYOND = 24
+
+
+def faults_tried(batches, tests, beyond=BEYOND):
+    """All faults (place, first, last) before the minute beyond that can have been by the words of [9]."""
+    found = []
+    for place in places_in(batches):
+        bad = [window_of(batches, place, test) for test in tests if test[2] == "bad"]
+        good = [window_of(batches, place, test) for test in tests if test[2] == "good"]
+        found += [(place, *span) for span in spans_between(bad, good, beyond)]
+    return found
+
+
+def small_runs(rng, most=6):
+    """A pair (runs, gone) of small numbers."""
+    runs = [tuple(sorted((rng.randint(0, 9), rng.randint(0, 9)))) for _ in range(rng.randint(1, most))]
+    return runs, stretches_of(rng.sample(range(11), rng.choice([0, 0, 1, 2, 3, 5, 7])))
+
+
+def fewest_tried(runs, gone):
+    """How many numbers that aren't gone are needed for each run to have one, all sets of small ones gone through."""
+    left = sorted(members(runs) - members(gone))
+    for many in range(len(left) + 1):
+        for some in itertools.combinations(left, many):
+            if all(any(first <= number <= last for number in some) for first, last in runs):
+                return many
+    return None
