@@ -231,3 +231,17 @@ def fewest_tried(runs, gone):
             if all(any(first <= number <= last for number in some) for first, last in runs):
                 return many
     return None
+
+
+def small_prices(rng):
+    """A pair (prices, runs) of few places."""
+    many = rng.randint(1, 7)
+    prices = [rng.choice([0, 1, 1, 2, 3, 5, 8]) for _ in range(many)]
+    ends = [(rng.randrange(many), rng.randrange(many)) for _ in range(rng.randint(1, 6))]
+    return prices, [tuple(sorted(pair)) for pair in ends]
+
+
+def cost_tried(prices, runs):
+    """The least cost of places such that each run has one, all sets of few places gone through."""
+    return min(sum(prices[place] for place in some) for some in subsets(len(prices))
+               if all(set(range(first, last + 1)) & set(some) for first, last in runs))

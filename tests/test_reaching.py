@@ -6,6 +6,7 @@ import unittest
 
 from tests.helper import (
     BIG, faults_tried, holds_to_point_two, is_marked, members, meets, small_case, stretches_of, window_of)
+from tinrecall.packings import cases_all, cases_with
 from tinrecall.suspects import can_reach, must_reach, next_test
 
 ONE = ("aaaa", 6, [("racks", "cooker", 2, [(10, 20), (15, 30), (5, 9)]), ("line", "filler", 0, 1, 1)])
@@ -137,6 +138,15 @@ class ReachTest(unittest.TestCase):
                                           ("aaaa", 24 * BIG, "good"), ("aaaa", 10 * BIG, "good")],
                          [("bbbb", [(10, 7 * BIG - 1)]), ("aaaa", [(0, 10 * BIG - 1)])],
                          [("aaaa", [(3 * BIG, 3 * BIG + 9)])])
+
+    def test_told_things_handed_in_again(self):
+        tests = [("aaaa", 0, "bad"), ("aaaa", 2, "good")]
+        packing = ("north", 2, [("aaaa", 0, 5), ("bbbb", 1, 4)])
+        self.assertEqual(cases_with(packing, can_reach(ALL, tests)), [(0, 0), (2, 4)])
+        self.assertEqual(cases_all(packing, can_reach(ALL, tests)), [(0, 0), (2, 2)])
+        self.assertEqual(cases_with(packing, must_reach(ALL, tests)), [(0, 0)])
+        mark, tin, _ = next_test(ALL, tests, [("bbbb", 4)])
+        self.assertEqual(can_reach(ALL, [*tests, (mark, tin, "good")]), [("aaaa", [(0, 1)])])
 
     def test_changed_lists_are_answered_as_they_are_then(self):
         stays, tests = [(5, 9), (7, 8)], [("aaaa", 0, "bad")]
