@@ -84,6 +84,15 @@ class NoneShownTest(unittest.TestCase):
                 self.assertEqual(holds_to_point_two(self, none_shown, batches, tests), told)
                 self.assertIs(shows_none(batches, tests, told), told is not None)
 
+    def test_two_bad_ones_rise_wherever_they_stand(self):
+        # Both bad tins at each two places of 24 tests, the one that ends first ahead of the other one or behind it.
+        for one, other in itertools.permutations(range(24), 2):
+            tests = [GOOD7] * 24
+            tests[one], tests[other] = BAD0, BAD6
+            told = none_shown([POTS], tests)
+            self.assertEqual([row[:2] for row in told], [("pots", sorted([one, other]))])
+            self.assertIs(shows_none([POTS], tests, told), True)
+
     def test_good_tins_without_a_window_among_the_tests(self):
         tests = [FAR, BAD6, ("bbbb", 0, "good"), GOOD7, BAD0, FAR]
         told = holds_to_point_two(self, none_shown, ALL, tests)
