@@ -245,3 +245,128 @@ def cost_tried(prices, runs):
     """The least cost of places such that each run has one, all sets of few places gone through."""
     return min(sum(prices[place] for place in some) for some in subsets(len(prices))
                if all(set(range(first, last + 1)) & set(some) for first, last in runs))
+
+
+def name_told(deed):
+    """The name of the packing that a deed of a page is of."""
+    return deed[{"pack": 1, "lade": 3}.get(deed[0], 2)]
+
+
+def idle_word(deed, packed):
+    """The word by which a page is idle, by the words of [14]; None where it is done."""
+    due = [("packed", deed[0] == "pack" and name_told(deed) in packed),
+           ("strange", deed[0] != "pack" and name_told(deed) not in packed),
+           ("same", deed[0] == "lade" and deed[1] == deed[2])]
+    return next((word for word, is_due in due if is_due), None)
+
+
+class CaseByCase:
+    """The pages of a small heap till a day gone through case by case, as [14] and [15] have it.
+
+    where: for each packed (name, case) the pair (word, holder or None); by: for each one that lacks its page's number;
+    ways: for each packed one the triples of [16]; fared: for each page, in order, (number, word, short cases).
+    """
+
+    def __init__(self, heap, day):
+        self.where, self.by, self.ways, self.fared = {}, {}, {}, []
+        for _, number, deed in sorted((page for page in heap if page[0] <= day), key=lambda page: page[:2]):
+            word = idle_word(deed, {name for name, _ in self.where})
+            short = set() if word else getattr(self, deed[0])(number, *deed[1:])
+            self.fared.append((number, word or "done", stretches_of(short)))
+
+    def put(self, key, number, word, holder, spot):
+        self.where[key] = spot
+        self.by.pop(key, None)
+        self.ways.setdefault(key, []).append((number, word, holder))
+
+    def pack(self, number, name, many, holder):
+        for case in range(many):
+            self.put((name, case), number, "packed", holder, ("lying", holder))
+        return set()
+
+    def carry(self, number, holder, name, first, last, way, spot):
+        short = set()
+        for case in range(first, last + 1):
+            if self.where.get((name, case)) == ("lying", holder):
+                self.put((name, case), number, *way, spot)
+            else:
+                short.add(case)
+        return short
+
+    def lade(self, number, holder, other, name, first, last):
+        return self.carry(number, holder, name, first, last, ("laded", other), ("lying", other))
+
+    def sell(self, number, holder, name, first, last):
+        return self.carry(number, holder, name, first, last, ("sold", holder), ("sold", None))
+
+    def back(self, number, holder, name, first, last):
+        return self.carry(number, holder, name, first, last, ("back", holder), ("back", None))
+
+    def tell(self, number, holder, name, cases):
+        told = members(cases)
+        short = {case for case in told if self.where.get((name, case)) not in [("lying", holder), ("lacking", None)]}
+        for key, spot in list(self.where.items()):
+            if key[0] == name and spot == ("lying", holder) and key[1] not in told:
+                self.put(key, number, "lacking", holder, ("lacking", None))
+                self.by[key] = number
+            elif key[0] == name and spot == ("lacking", None) and key[1] in told:
+                self.put(key, number, "found", holder, ("lying", holder))
+        return short
+
+    def cases(self, name, *spot):
+        """The numbers of the cases of a name at a spot."""
+        return {case for (of, case), there in self.where.items() if of == name and there == spot}
+
+    def standing(self):
+        """What standing must tell."""
+        names = sorted({name for name, _ in self.where})
+        holders = sorted({holder for word, holder in self.where.values() if word == "lying"})
+        lying = [(holder, name, stretches_of(self.cases(name, "lying", holder)))
+                 for holder in holders for name in names]
+        ends = [(name, word, stretches_of(self.cases(name, word, None)))
+                for name in names for word in ("back", "lacking", "sold")]
+        return ([row for row in lying if row[2]], [row for row in ends if row[2]],
+                [(number, short) for number, _, short in self.fared if short],
+                [(number, word) for number, word, _ in self.fared if word != "done"])
+
+
+NAMES = ["pears", "plums"]
+HOLDERS = ["east", "mill", "west"]
+
+
+def small_deed(rng, holders=("east", "mill", "west"), most=9):
+    """A deed of a page of small packings, by one of the holders."""
+    word = rng.choice(["pack", "sell", "back"] + ["lade"] * 5 + ["tell"] * 4)
+    name, holder = rng.choice(NAMES), rng.choice(holders)
+    first = rng.randint(0, most)
+    last = min(most, first + rng.choice([0, 1, 2, 3, 5, 9]))
+    if word == "pack":
+        return ("pack", name, rng.randint(1, most), holder)
+    if word == "lade":
+        others = [other for other in HOLDERS if other != holder]
+        return ("lade", holder, rng.choice(others * 3 + [holder]), name, first, last)
+    if word == "tell":
+        return ("tell", holder, name, stretches_of([case for case in range(most + 1) if rng.random() < 0.7]))
+    return (word, holder, name, first, last)
+
+
+def small_heap(rng, most=24):
+    """A heap of small packings, in any order."""
+    # Mostly packed early, and told of holders who have some, so that much is done.
+    deeds = [("pack", name, rng.randint(4, 9), "mill") for name in rng.sample(NAMES, rng.choice([0, 1, 2, 2, 2]))]
+    holders = ["mill"]
+    for _ in range(rng.choice([0, 2, *range(6, most)])):
+        deeds.append(small_deed(rng, holders if rng.random() < 0.8 else HOLDERS))
+        if deeds[-1][0] == "lade":
+            holders.append(deeds[-1][2])
+    days = [7 * at // len(deeds) if rng.random() < 0.9 else rng.randint(0, 6) for at in range(len(deeds))]
+    pages = list(zip(days, sorted(rng.sample(range(50), len(deeds))), deeds))
+    rng.shuffle(pages)
+    return pages
+
+
+def in_orders(rng, heap, many=3):
+    """The heap turned round and in some other orders."""
+    yield heap[::-1]
+    for _ in range(many):
+        yield rng.sample(heap, len(heap))
