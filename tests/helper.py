@@ -181,6 +181,17 @@ def window_of(batches, place, test):
     return None
 
 
+def rack_of(batch, place, tin):
+    """The rack that a tin is in at a place; None where it is in none."""
+    return next((tin // passed[2] for passed in batch[2] if passed[1] == place and passed[0] == "racks"), None)
+
+
+def cases_laid_out(packing):
+    """The tins of each case of a packing, all laid out one by one."""
+    tins = [(mark, tin) for mark, first, last in packing[2] for tin in range(first, last + 1)]
+    return [tins[k:k + packing[1]] for k in range(0, len(tins), packing[1])]
+
+
 def places_in(batches):
     """The rising list of the places of some batches."""
     return sorted({passed[1] for batch in batches for passed in batch[2]})

@@ -3,7 +3,7 @@
 import itertools
 import unittest
 
-from tests.helper import BIG, holds_to_point_two, is_marked, stretches_of
+from tests.helper import BIG, holds_to_point_two, is_marked, rack_of, stretches_of
 from tinrecall.batches import window
 from tinrecall.faults import reached
 
@@ -11,14 +11,6 @@ ONE = ("ab12", 11, [("line", "filler", 10, 2, 3), ("racks", "cooker", 4, [(40, 4
 TWO = ("zz99", 6, [("racks", "cooker", 2, [(5, 12), (45, 60), (9, 9)]), ("line", "seamer", 0, 3, 1)])
 BARE = ("aaaa", 5, [])
 BATCHES = [TWO, BARE, ONE]
-
-
-def rack_of(batch, place, tin):
-    """The rack that a tin is in at a place; None where it is in none."""
-    for passed in batch[2]:
-        if passed[1] == place and passed[0] == "racks":
-            return tin // passed[2]
-    return None
 
 
 def is_reached(batch, fault, tin):

@@ -47,6 +47,10 @@ def bound_names(tree):
             yield node.attr
 
 
+OWN_METHODS = {method.name for path in FILES for node in tree_of(path).body if isinstance(node, ast.ClassDef)
+               for method in node.body if isinstance(method, ast.FunctionDef)}
+
+
 class LanguageTest(unittest.TestCase):
     def test_only_files_of_the_package(self):
         found = [path for path in PACKAGE.rglob("*") if "__pycache__" not in path.parts]
@@ -136,7 +140,36 @@ class LanguageTest(unittest.TestCase):
                     if isinstance(node, ast.Name):
                         self.assertIn(node.id, own | BUILTINS)
                     if isinstance(node, ast.Call) and isinstance(node.func, ast.Attribute):
-                        self.assertIn(node.func.attr, METHODS | own | {"__init__"})
+                        self.assertIn(node.func.attr, METHODS | OWN_METHODS | {"__init__"})
+
+    def test_no_name_is_a_method_and_an_attribute(self):
+        assigned = set()
+        for path in FILES:
+            assigned |= {node.attr for node in ast.walk(tree_of(path))
+                         if isinstance(node, ast.Attribute) and isinstance(node.ctx, ast.Store)}
+        self.assertEqual(assigned & OWN_METHODS, set())
+        for path in FILES:
+            with self.subTest(path.name):
+                tree = tree_of(path)
+                called = {id(node.func) for node in ast.walk(tree) if isinstance(node, ast.Call)}
+                for node in ast.walk(tree):
+                    # A method is called where it stands, and what is read otherwise some class assigns.
+                    if isinstance(node, ast.Attribute) and id(node) not in called:
+                        self.assertIn(node.attr, assigned)
+
+    def test_tables_are_not_passed_on(self):
+        for path in FILES:
+            with self.subTest(path.name):
+                tree = tree_of(path)
+                tables = {node.targets[0].id for node in tree.body
+                          if isinstance(node, ast.Assign) and isinstance(node.value, (ast.List, ast.Dict))}
+                for node in ast.walk(tree):
+                    if isinstance(node, ast.Call):
+                        handed = {one.id for one in node.args if isinstance(one, ast.Name)}
+                        if not isinstance(node.func, ast.Name) or node.func.id not in ("list", "dict", "len", "sorted"):
+                            self.assertEqual(handed & tables, set())
+                    if isinstance(node, (ast.Return, ast.Assign)) and isinstance(node.value, ast.Name):
+                        self.assertNotIn(node.value.id, tables)
 
     def test_signs_and_statements(self):
         for path in FILES:

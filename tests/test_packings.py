@@ -3,7 +3,7 @@
 import itertools
 import unittest
 
-from tests.helper import BIG, holds_to_point_two, is_marked, is_set, stretches_of
+from tests.helper import BIG, cases_laid_out, holds_to_point_two, is_marked, is_set, stretches_of
 from tinrecall.packings import cases_all, cases_of, cases_with, packed_twice, tins_in
 
 PACKING = ("north", 4, [("abcd", 3, 8), ("zzzz", 0, 0), ("abcd", 20, 22), ("aaaa", 5, 5)])
@@ -13,12 +13,6 @@ GREAT = ("great", BIG, [("abcd", 7, 7 + 3 * BIG), ("abce", BIG, BIG + 1), ("abcd
 PARTS = [("abcd", 0, 2), ("abcd", 1, 1), ("abce", 2, 6), ("abcd", 3, 4), ("abcd", 0, 2), ("abce", 0, 7)]
 PACKINGS = [("case", size, list(parts)) for size in (1, 2, 3, 5, 30) for many in (1, 2, 3)
             for parts in itertools.permutations(PARTS, many)] + [("case", 1, []), ("case", 4, [])]
-
-
-def cases_laid_out(packing):
-    """The tins of each case, all laid out one by one."""
-    tins = [(mark, tin) for mark, first, last in packing[2] for tin in range(first, last + 1)]
-    return [tins[k:k + packing[1]] for k in range(0, len(tins), packing[1])]
 
 
 def tins_marked(marked):

@@ -12,6 +12,7 @@ LACKING = "lacking"
 DONE = "done"
 
 NAME_AT = {"pack": 1, "lade": 3, "sell": 2, "back": 2, "tell": 2}
+ENDS = {"sell": "sold", "back": "back"}
 
 
 def in_order(pages):
@@ -60,18 +61,12 @@ def do_lade(store, number, deed):
     return short, [("laded", other, carried)]
 
 
-def do_sell(store, number, deed):
-    """Sells cases that lie with a holder."""
+def do_end(store, number, deed):
+    """Sells cases that lie with a holder, or brings them back."""
+    word = ENDS[deed[0]]
     holder, first, last = deed[1], deed[3], deed[4]
-    carried, short = carry(store, holder, (SOLD,), [(first, last)])
-    return short, [(SOLD, holder, carried)]
-
-
-def do_back(store, number, deed):
-    """Brings cases back that lie with a holder."""
-    holder, first, last = deed[1], deed[3], deed[4]
-    carried, short = carry(store, holder, (BACK,), [(first, last)])
-    return short, [(BACK, holder, carried)]
+    carried, short = carry(store, holder, (word,), [(first, last)])
+    return short, [(word, holder, carried)]
 
 
 def do_tell(store, number, deed):
@@ -89,7 +84,7 @@ def do_tell(store, number, deed):
     return short, [(LACKING, holder, untold), ("found", holder, found)]
 
 
-DOING = {"pack": do_pack, "lade": do_lade, "sell": do_sell, "back": do_back, "tell": do_tell}
+DOING = {"pack": do_pack, "lade": do_lade, "sell": do_end, "back": do_end, "tell": do_tell}
 
 
 def word_of(deed, packed):
